@@ -51,7 +51,7 @@ func (l *Larder) answer(text string) string {
 // and answered by nothing.
 func unbuilt(c command.Command) bool {
 	switch c.(type) {
-	case command.Order, command.Cancel, command.Ship, command.Recall, command.Release:
+	case command.Recall, command.Release:
 		return true
 	}
 	return false

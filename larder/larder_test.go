@@ -120,7 +120,7 @@ func TestP1EveryCallEnds(t *testing.T) {
 	for _, l := range larders {
 		for _, s := range texts {
 			reply := l.Handle(s)
-			unbuilt := reply == "" && s != "" && s[0] >= api.Order && s[0] <= api.Release
+			unbuilt := reply == "" && s != "" && (s[0] == api.Recall || s[0] == api.Release)
 			if !unbuilt && (reply == "" || reply[0] > byte(api.ErrRecall)) {
 				t.Errorf("P1: Handle(%x) = %x", s, reply)
 			}
@@ -191,7 +191,8 @@ func TestP3New(t *testing.T) {
 	told(t, "P3", l, "0c 01 00", "00 00 00", "01 00", "00", "02 01 07 01 01", "00", "0c 07 00", "00 01 01", "0b 01", "00 07 01 01 01 01 00 00 00 00 00")
 }
 
-// Only Look and Supply of this stage's commands have numbers behind OK.
+// Of the commands that are built, only Order, Look and Supply have numbers
+// behind OK.
 func TestP3RepliesAreOneByte(t *testing.T) {
 	l := larder.New()
 	answered(t, "P3", l, api.OK, api.Day, 5)
@@ -199,6 +200,12 @@ func TestP3RepliesAreOneByte(t *testing.T) {
 	answered(t, "P3", l, api.OK, api.Split, 1, 2, 2)
 	answered(t, "P3", l, api.OK, api.Merge, 1, 2, 3)
 	answered(t, "P3", l, api.OK, api.Scrap, 3, 1)
+	for _, code := range []byte{api.Cancel, api.Ship} {
+		if ns := numbers(t, l.Handle(text(api.Order, 1, 7, 1, 0, 0))); len(ns) != 3 {
+			t.Errorf("P3: Order answered %d numbers", len(ns))
+		}
+		answered(t, "P3", l, api.OK, code, 1)
+	}
 	answered(t, "P3", l, api.ErrLot, api.Look, 4)
 	if ns := numbers(t, l.Handle(text(api.Look, 3))); len(ns) != 10 {
 		t.Errorf("P3: Look answered %d numbers", len(ns))

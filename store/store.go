@@ -1,4 +1,4 @@
-// Package store keeps the lots, and does commands to them.
+// Package store keeps lots and orders, and does commands to them.
 package store
 
 import (
@@ -6,13 +6,15 @@ import (
 	"larder/command"
 )
 
-// Store is today, the lots and the recalls.
+// Store is today, the lots, the orders and the recalls.
 type Store struct {
 	today int64
 	// In the order of their coming, so that parents stand ahead of what was
 	// made of them; lots never go away, so their number is that of comings.
-	lots    []*lot
-	recalls map[recall]struct{}
+	lots     []*lot
+	orders   map[int64]int64   // an order's goods, by its number
+	holdings map[holding]int64 // how many an order holds of a lot
+	recalls  map[recall]struct{}
 }
 
 // recall is of a lot, with a mark.
@@ -22,7 +24,7 @@ type recall struct {
 
 // New begins with an empty store.
 func New() *Store {
-	return &Store{recalls: map[recall]struct{}{}}
+	return &Store{orders: map[int64]int64{}, holdings: map[holding]int64{}, recalls: map[recall]struct{}{}}
 }
 
 // Do does a command whose numbers are in range, and answers the numbers of its
@@ -37,6 +39,12 @@ func (s *Store) Do(c command.Command) ([]int64, api.Errno) {
 		return nil, s.split(c)
 	case command.Merge:
 		return nil, s.merge(c)
+	case command.Order:
+		return s.order(c)
+	case command.Cancel:
+		return nil, s.cancel(c)
+	case command.Ship:
+		return nil, s.ship(c)
 	case command.Scrap:
 		return nil, s.scrap(c)
 	case command.Look:
