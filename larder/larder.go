@@ -41,20 +41,7 @@ func (l *Larder) answer(text string) string {
 	if !c.InRange() {
 		return reply(nil, api.ErrNumber)
 	}
-	if unbuilt(c) {
-		return ""
-	}
 	return reply(l.store.Do(c))
-}
-
-// unbuilt tells the commands whose promises have not landed: they are read,
-// and answered by nothing.
-func unbuilt(c command.Command) bool {
-	switch c.(type) {
-	case command.Recall, command.Release:
-		return true
-	}
-	return false
 }
 
 func reply(numbers []int64, errno api.Errno) string {

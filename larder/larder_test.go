@@ -72,11 +72,11 @@ func example(t *testing.T) *larder.Larder {
 	return l
 }
 
-// seen is all that Look and Supply tell of the lots 1 to 40 and the goods 1 to
+// seen is all that Look and Supply tell of the lots 1 to 60 and the goods 1 to
 // 9; by the gates, as long as some lot keeps, of today too.
 func seen(l *larder.Larder) string {
 	var b strings.Builder
-	for lot := range uint64(40) {
+	for lot := range uint64(60) {
 		b.WriteString(l.Handle(text(api.Look, lot+1)) + "|")
 	}
 	for goods := range uint64(9) {
@@ -119,9 +119,7 @@ func TestP1EveryCallEnds(t *testing.T) {
 	texts = append(texts, strings.Repeat("\xff", 100000), strings.Repeat("\x00", 100000), "\x01"+strings.Repeat("\x80", 100000))
 	for _, l := range larders {
 		for _, s := range texts {
-			reply := l.Handle(s)
-			unbuilt := reply == "" && s != "" && (s[0] == api.Recall || s[0] == api.Release)
-			if !unbuilt && (reply == "" || reply[0] > byte(api.ErrRecall)) {
+			if reply := l.Handle(s); reply == "" || reply[0] > byte(api.ErrRecall) {
 				t.Errorf("P1: Handle(%x) = %x", s, reply)
 			}
 		}
@@ -163,7 +161,7 @@ func TestP2LarderStandsAlone(t *testing.T) {
 	r := rand.New(rand.NewSource(2))
 	var script []string
 	for range 300 {
-		script = append(script, anyCommand(r))
+		script = append(script, anyCommand(r, []uint64{1, 2, 3, 4, 5, 6, 7, 8}))
 	}
 	alone := larder.New()
 	var want []string
@@ -191,8 +189,7 @@ func TestP3New(t *testing.T) {
 	told(t, "P3", l, "0c 01 00", "00 00 00", "01 00", "00", "02 01 07 01 01", "00", "0c 07 00", "00 01 01", "0b 01", "00 07 01 01 01 01 00 00 00 00 00")
 }
 
-// Of the commands that are built, only Order, Look and Supply have numbers
-// behind OK.
+// Only Order, Recall, Look and Supply have numbers behind OK.
 func TestP3RepliesAreOneByte(t *testing.T) {
 	l := larder.New()
 	answered(t, "P3", l, api.OK, api.Day, 5)
@@ -206,6 +203,10 @@ func TestP3RepliesAreOneByte(t *testing.T) {
 		}
 		answered(t, "P3", l, api.OK, code, 1)
 	}
+	if ns := numbers(t, l.Handle(text(api.Recall, 3, 1))); len(ns) != 1 {
+		t.Errorf("P3: Recall answered %d numbers", len(ns))
+	}
+	answered(t, "P3", l, api.OK, api.Release, 3, 1)
 	answered(t, "P3", l, api.ErrLot, api.Look, 4)
 	if ns := numbers(t, l.Handle(text(api.Look, 3))); len(ns) != 10 {
 		t.Errorf("P3: Look answered %d numbers", len(ns))

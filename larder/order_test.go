@@ -20,14 +20,6 @@ func TestExample3(t *testing.T) {
 	told(t, "P6", example(t), "05 01 07 fa 01 00 02", "00 03 01 05 02 c8 01 03 2d")
 }
 
-// The last two replies of example 4, which no recall has a part in.
-func TestExample4Ship(t *testing.T) {
-	told(t, "P7", example(t),
-		"05 01 07 fa 01 00 00", "00 02 02 c8 01 03 32",
-		"07 01", "00",
-		"0b 02", "00 07 0f 02 ac 02 00 00 c8 01 00 64 00")
-}
-
 // The errors of an order, the first that applies.
 func TestP4Order(t *testing.T) {
 	l := larder.New()

@@ -12,40 +12,50 @@ import (
 	"larder/larder"
 )
 
-// anyCommand makes a command of those that are built, mostly of lots that may
-// be there.
-func anyCommand(r *rand.Rand) string {
-	lot := func() uint64 { return uint64(r.Intn(33)) }
+// anyCommand makes a command, mostly of lots that are there.
+func anyCommand(r *rand.Rand, there []uint64) string {
+	fresh := func() uint64 { return uint64(r.Intn(60)) }
 	few := func() uint64 { return uint64(r.Intn(12)) }
 	goods := func() uint64 { return 1 + uint64(r.Intn(2)) }
-	switch r.Intn(12) {
+	mark := func() uint64 { return uint64(7+r.Intn(20)) / 8 }
+	lot := func() uint64 {
+		if len(there) == 0 || r.Intn(12) == 0 {
+			return fresh()
+		}
+		return there[r.Intn(len(there))]
+	}
+	switch r.Intn(18) {
 	case 0:
 		return text(api.Day, uint64(r.Intn(4)))
-	case 1:
-		return text(api.Receive, lot(), goods(), 10*few(), few())
-	case 2:
-		return text(api.Split, lot(), lot(), few())
+	case 1, 2:
+		return text(api.Receive, fresh(), goods(), 10*few(), few())
 	case 3:
-		return text(api.Merge, lot(), lot(), lot())
+		return text(api.Split, lot(), fresh(), few())
 	case 4:
-		return text(api.Scrap, lot(), few())
+		return text(api.Merge, lot(), lot(), fresh())
 	case 5:
-		return text(api.Look, lot())
+		return text(api.Scrap, lot(), few())
 	case 6:
-		return text(api.Cancel, few())
+		return text(api.Look, lot())
 	case 7:
-		return text(api.Ship, few())
+		return text(api.Cancel, few())
 	case 8:
+		return text(api.Ship, few())
+	case 9:
 		return text(api.Supply, goods(), few())
+	case 10:
+		return text(api.Recall, lot(), mark())
+	case 11, 12, 13:
+		return text(api.Release, lot(), mark())
 	}
 	return text(api.Order, 1+few(), goods(), 7*few(), few()/4, uint64(r.Intn(5)))
 }
 
-// looks is what Look tells of the lots 1 to 40 that are there.
+// looks is what Look tells of the lots 1 to 60 that are there.
 func looks(t *testing.T, l *larder.Larder) map[uint64][]uint64 {
 	t.Helper()
 	found := map[uint64][]uint64{}
-	for lot := uint64(1); lot <= 40; lot++ {
+	for lot := uint64(1); lot <= 60; lot++ {
 		if reply := l.Handle(text(api.Look, lot)); reply[0] == byte(api.OK) {
 			found[lot] = numbers(t, reply)
 		}
@@ -99,6 +109,80 @@ type book struct {
 	orders map[uint64][]uint64 // lots and how many, in turn
 	// Of a lot, how many have been shipped.
 	shipped map[uint64]uint64
+	// Of a lot, of which lots it was made.
+	parents map[uint64][]uint64
+	recalls map[[2]uint64]int // by lot and mark
+}
+
+func newBook() *book {
+	return &book{
+		orders:  map[uint64][]uint64{},
+		shipped: map[uint64]uint64{},
+		parents: map[uint64][]uint64{},
+		recalls: map[[2]uint64]int{},
+	}
+}
+
+// comesOf goes up from a lot to all of which it was made.
+func (b *book) comesOf(lot, of uint64) bool {
+	seen := map[uint64]int{lot: 1}
+	for next := []uint64{lot}; len(next) > 0; {
+		up := next[0]
+		next = next[1:]
+		if up == of {
+			return true
+		}
+		for _, parent := range b.parents[up] {
+			if seen[parent] == 0 {
+				next = append(next, parent)
+			}
+			seen[parent]++
+		}
+	}
+	return false
+}
+
+func (b *book) isRecalled(lot uint64) bool {
+	for key := range b.recalls {
+		if b.comesOf(lot, key[0]) {
+			return true
+		}
+	}
+	return false
+}
+
+// recallOf reckons the reply to a recall from what Look tells.
+func (b *book) recallOf(found map[uint64][]uint64, lot, mark uint64) string {
+	if lot == 0 || mark == 0 {
+		return string([]byte{byte(api.ErrNumber)})
+	}
+	if found[lot] == nil {
+		return string([]byte{byte(api.ErrLot)})
+	}
+	if b.recalls[[2]uint64{lot, mark}] > 0 {
+		return string([]byte{byte(api.ErrTwice)})
+	}
+	if len(b.recalls) == api.MaxRecalls {
+		return string([]byte{byte(api.ErrFull)})
+	}
+	var held []uint64
+	for _, each := range slices.Sorted(maps.Keys(found)) {
+		if found[each][5] > 0 && b.comesOf(each, lot) {
+			held = append(held, each, found[each][5])
+		}
+	}
+	return text(byte(api.OK), append([]uint64{uint64(len(held) / 2)}, held...)...)
+}
+
+// releaseOf reckons the reply to a release.
+func (b *book) releaseOf(lot, mark uint64) string {
+	if lot == 0 || mark == 0 {
+		return string([]byte{byte(api.ErrNumber)})
+	}
+	if b.recalls[[2]uint64{lot, mark}] == 0 {
+		return string([]byte{byte(api.ErrRecall)})
+	}
+	return string([]byte{byte(api.OK)})
 }
 
 // orderOf reckons the reply to an order from what Look tells.
@@ -152,6 +236,10 @@ func (b *book) wanted(found map[uint64][]uint64, command string) (reply string, 
 		return b.orderOf(found, ns[0], ns[1], ns[2], ns[3], ns[4]), true
 	case api.Cancel, api.Ship:
 		return b.endOf(ns[0]), true
+	case api.Recall:
+		return b.recallOf(found, ns[0], ns[1]), true
+	case api.Release:
+		return b.releaseOf(ns[0], ns[1]), true
 	}
 	return "", false
 }
@@ -172,6 +260,14 @@ func (b *book) note(command string, replied []uint64) {
 			b.shipped[lines[i]] += lines[i+1]
 		}
 		delete(b.orders, ns[0])
+	case api.Split:
+		b.parents[ns[1]] = ns[:1]
+	case api.Merge:
+		b.parents[ns[2]] = ns[:2]
+	case api.Recall:
+		b.recalls[[2]uint64{ns[0], ns[1]}] = 1
+	case api.Release:
+		delete(b.recalls, [2]uint64{ns[0], ns[1]})
 	}
 }
 
@@ -185,7 +281,8 @@ func commandNumbers(command string) []uint64 {
 	return ns
 }
 
-// agrees holds what Look tells of Held and Shipped against the book.
+// agrees holds what Look tells of Held and Shipped, and of recalls, against the
+// book.
 func (b *book) agrees(t *testing.T, found map[uint64][]uint64) {
 	t.Helper()
 	held := map[uint64]uint64{}
@@ -198,22 +295,27 @@ func (b *book) agrees(t *testing.T, found map[uint64][]uint64) {
 		if n[5] != held[lot] || n[6] != b.shipped[lot] {
 			t.Fatalf("P7: of lot %d there are Held %d and Shipped %d, want %d and %d", lot, n[5], n[6], held[lot], b.shipped[lot])
 		}
+		if got, want := n[9] == 1, b.isRecalled(lot); got != want || n[9] > 1 {
+			t.Fatalf("P8: Look %d ends with %d; recalled: %v", lot, n[9], want)
+		}
 	}
 }
 
-// Whatever is done, counts add up, Supply and Order agree with Look, orders
-// hold what was told, and an error or a question changes nothing.
+// Whatever is done, counts add up, Supply, Order and Recall agree with Look,
+// orders hold what was told, all that comes of recalled lots is recalled, and
+// an error or a question changes nothing.
 func TestWalk(t *testing.T) {
 	for seed := range int64(60) {
 		r := rand.New(rand.NewSource(seed))
 		l := larder.New()
-		b := &book{orders: map[uint64][]uint64{}, shipped: map[uint64]uint64{}}
+		b := newBook()
 		for range 250 {
-			before, command := seen(l), anyCommand(r)
-			want, known := b.wanted(looks(t, l), command)
+			before, found := seen(l), looks(t, l)
+			command := anyCommand(r, slices.Sorted(maps.Keys(found)))
+			want, known := b.wanted(found, command)
 			reply := l.Handle(command)
 			if known && reply != want {
-				t.Fatalf("P6: Handle(%x) = %x, want %x", command, reply, want)
+				t.Fatalf("P5, P6: Handle(%x) = %x, want %x", command, reply, want)
 			}
 			ok := reply[0] == byte(api.OK)
 			if ok {
@@ -222,7 +324,7 @@ func TestWalk(t *testing.T) {
 			if (!ok || command[0] >= api.Look) && seen(l) != before {
 				t.Fatalf("P1: Handle(%x) = %x changed the store", command, reply)
 			}
-			found := looks(t, l)
+			found = looks(t, l)
 			balanced(t, found)
 			b.agrees(t, found)
 			goods, gate := 1+uint64(r.Intn(2)), uint64(r.Intn(12))

@@ -60,34 +60,3 @@ func (s *Store) canServe(goods, gate int64) []*lot {
 	}
 	return serving
 }
-
-// family is a set of lots' numbers.
-type family map[int64]struct{}
-
-func (f family) has(l *lot) bool {
-	_, ok := f[l.number]
-	return ok
-}
-
-// recalled answers all lots that are recalled.
-func (s *Store) recalled() family {
-	f := family{}
-	for r := range s.recalls {
-		f[r.lot] = struct{}{}
-	}
-	s.grow(f)
-	return f
-}
-
-// grow puts into a family all that comes of its lots. One walk is enough,
-// since parents came ahead of what was made of them; going up from each lot
-// would meet a lot once for every way that leads to it.
-func (s *Store) grow(f family) {
-	for _, l := range s.lots {
-		for _, p := range l.parents {
-			if _, ok := f[p.lot]; ok {
-				f[l.number] = struct{}{}
-			}
-		}
-	}
-}

@@ -11,7 +11,7 @@ type holding struct {
 	order, lot int64
 }
 
-// line is a lot, and how many of it an order gets.
+// line is a lot, and how many of it.
 type line struct {
 	lot   *lot
 	count int64

@@ -32,7 +32,7 @@ func looked(t *testing.T, s *Store, number int64) []int64 {
 func TestRecalledLotsDoNotServe(t *testing.T) {
 	for _, way := range []int64{0, api.Whole, api.First, api.Whole + api.First} {
 		s := threeLots(t)
-		s.recalls[recall{1, 1}] = struct{}{}
+		done(t, s, command.Recall{Lot: 1, Mark: 1})
 		got, errno := s.Do(command.Order{Order: 1, Goods: 7, Count: 3, Way: way})
 		if want := []int64{1, 3, 3}; errno != api.OK || !slices.Equal(got, want) {
 			t.Errorf("P6: Order by the way %d = %v, %d, want %v", way, got, errno, want)
@@ -48,8 +48,8 @@ func TestOrdersOfRecalledLotsEnd(t *testing.T) {
 	done(t, s,
 		command.Order{Order: 1, Goods: 7, Count: 8},
 		command.Order{Order: 2, Goods: 7, Count: 9})
-	s.recalls[recall{1, 1}] = struct{}{}
-	s.recalls[recall{3, 1}] = struct{}{}
+	done(t, s, command.Recall{Lot: 1, Mark: 1})
+	done(t, s, command.Recall{Lot: 3, Mark: 1})
 	done(t, s, command.Cancel{Order: 1}, command.Ship{Order: 2})
 	for number, want := range map[int64][]int64{
 		1: {7, 20, 1, 10, 6, 0, 0, 0, 4, 1},

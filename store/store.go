@@ -1,4 +1,4 @@
-// Package store keeps lots and orders, and does commands to them.
+// Package store keeps lots, orders and recalls, and does commands to them.
 package store
 
 import (
@@ -15,11 +15,6 @@ type Store struct {
 	orders   map[int64]int64   // an order's goods, by its number
 	holdings map[holding]int64 // how many an order holds of a lot
 	recalls  map[recall]struct{}
-}
-
-// recall is of a lot, with a mark.
-type recall struct {
-	lot, mark int64
 }
 
 // New begins with an empty store.
@@ -45,6 +40,10 @@ func (s *Store) Do(c command.Command) ([]int64, api.Errno) {
 		return nil, s.cancel(c)
 	case command.Ship:
 		return nil, s.ship(c)
+	case command.Recall:
+		return s.recall(c)
+	case command.Release:
+		return nil, s.release(c)
 	case command.Scrap:
 		return nil, s.scrap(c)
 	case command.Look:

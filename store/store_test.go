@@ -75,14 +75,14 @@ func TestRecalledIsAllThatComesOfALot(t *testing.T) {
 	if got := supplied(t, s, 7, 0); !slices.Equal(got, []int64{5, 60 + 3 + 35 + 10 + 1}) {
 		t.Errorf("P5: Supply = %v", got)
 	}
-	s.recalls[recall{8, 1}] = struct{}{}
+	done(t, s, command.Recall{Lot: 8, Mark: 1})
 	recalledOf(8, 3, 4)
 	if got := supplied(t, s, 7, 0); !slices.Equal(got, []int64{3, 60 + 3 + 1}) {
 		t.Errorf("P5: Supply beside a recall = %v", got)
 	}
-	s.recalls[recall{2, 1}] = struct{}{}
+	done(t, s, command.Recall{Lot: 2, Mark: 1})
 	recalledOf(8, 3, 4, 2)
-	delete(s.recalls, recall{8, 1})
+	done(t, s, command.Release{Lot: 8, Mark: 1})
 	recalledOf(2)
 }
 
@@ -94,7 +94,7 @@ func TestRecalledByAnEmptyParent(t *testing.T) {
 		command.Receive{Lot: 2, Goods: 7, Count: 5, Expiry: 50},
 		command.Scrap{Lot: 1, Count: 5},
 		command.Merge{A: 1, B: 2, New: 3})
-	s.recalls[recall{1, 1}] = struct{}{}
+	done(t, s, command.Recall{Lot: 1, Mark: 1})
 	if !isRecalled(t, s, 3) {
 		t.Error("P5: lot 3 is not recalled")
 	}
@@ -110,7 +110,7 @@ func TestRecalledAlongManyWays(t *testing.T) {
 	for n := int64(3); n <= api.MaxLots; n++ {
 		done(t, s, command.Merge{A: n - 2, B: n - 1, New: n})
 	}
-	s.recalls[recall{1, 1}] = struct{}{}
+	done(t, s, command.Recall{Lot: 1, Mark: 1})
 	for n := int64(1); n <= api.MaxLots; n++ {
 		if got, want := isRecalled(t, s, n), n != 2; got != want {
 			t.Errorf("P5: lot %d recalled: %v, want %v", n, got, want)
