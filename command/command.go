@@ -63,6 +63,16 @@ func (c Scrap) InRange() bool   { return isId(c.Lot) && isCount(c.Count) }
 func (c Look) InRange() bool    { return isId(c.Lot) }
 func (c Supply) InRange() bool  { return isId(c.Goods) && isDay(c.Gate) }
 
+// Logged says whether a command is one that a log tells: those that only ask
+// are not.
+func Logged(c Command) bool {
+	switch c.(type) {
+	case Look, Supply:
+		return false
+	}
+	return true
+}
+
 func isId(numbers ...int64) bool {
 	for _, n := range numbers {
 		if n < 1 || n > api.MaxId {

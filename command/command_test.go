@@ -51,6 +51,14 @@ func TestReadEachCommand(t *testing.T) {
 	}
 }
 
+func TestLoggedIsAllButWhatAsks(t *testing.T) {
+	for _, s := range shapes {
+		if got, want := Logged(s.want), s.code != api.Look && s.code != api.Supply; got != want {
+			t.Errorf("P9: %#v is logged: %v, want %v", s.want, got, want)
+		}
+	}
+}
+
 func TestReadWantsAllBytesAndNoMore(t *testing.T) {
 	for _, s := range shapes {
 		whole := text(s.code, s.number...)

@@ -2,15 +2,21 @@
 package larder
 
 import (
+	"errors"
+
 	"larder/api"
 	"larder/command"
+	"larder/frame"
 	"larder/store"
 	"larder/wire"
 )
 
-// Larder is a store.
+var errNoGo = errors.New("larder: a frame that does not go")
+
+// Larder is a store, and the log of what was done to it.
 type Larder struct {
 	store *store.Store
+	log   []byte
 }
 
 // New begins with an empty store (P3).
@@ -18,36 +24,67 @@ func New() *Larder { return &Larder{store: store.New()} }
 
 // Handle does a command, and answers (P3 to P8).
 func (l *Larder) Handle(command string) string {
-	return l.answer(command)
+	numbers, errno := l.do(command)
+	return wire.Join(byte(errno), numbers)
 }
 
 // Log tells all that has been logged (P9).
-func (l *Larder) Log() string { return "" }
+func (l *Larder) Log() string { return string(l.log) }
 
 // Compact makes the log one state (P10).
-func (l *Larder) Compact() {}
+func (l *Larder) Compact() { l.log = frame.Append(nil, l.store.State()) }
 
 // Open begins with what a log tells; how many of its bytes it took (P11).
 func Open(log string) (*Larder, int) {
-	// Logs are not read yet; but methods of what Open gives must not panic.
-	return New(), 0
+	l := New()
+	return l, l.replay(log)
 }
 
-func (l *Larder) answer(text string) string {
+func (l *Larder) do(text string) ([]int64, api.Errno) {
 	c, ok := command.Read(text)
 	if !ok {
-		return reply(nil, api.ErrRequest)
+		return nil, api.ErrRequest
 	}
 	if !c.InRange() {
-		return reply(nil, api.ErrNumber)
+		return nil, api.ErrNumber
 	}
-	return reply(l.store.Do(c))
+	numbers, errno := l.store.Do(c)
+	if errno == api.OK && command.Logged(c) {
+		l.log = frame.Append(l.log, text)
+	}
+	return numbers, errno
 }
 
-func reply(numbers []int64, errno api.Errno) string {
-	b := []byte{byte(errno)}
-	for _, n := range numbers {
-		b = wire.Append(b, n)
+// replay does a log's frames, as far as they stand and go, and answers how
+// many bytes they have.
+func (l *Larder) replay(log string) (taken int) {
+	defer func() {
+		// Whatever goes wrong, the log breaks off there; what was done ahead
+		// of it stands.
+		if recover() != nil {
+			taken = len(l.log)
+		}
+	}()
+	for len(l.log) < len(log) {
+		l.redo(frame.First(log[len(l.log):]))
 	}
-	return string(b)
+	return len(l.log)
 }
+
+// redo does what a frame tells, and panics if it does not go. What goes is
+// just what is logged when it is done, so that the log comes to be the bytes
+// that were taken.
+func (l *Larder) redo(text string) {
+	ahead := len(l.log)
+	if ahead == 0 && isState(text) {
+		l.store = store.FromState(text)
+		l.log = frame.Append(nil, text)
+		return
+	}
+	l.do(text)
+	if len(l.log) == ahead {
+		panic(errNoGo)
+	}
+}
+
+func isState(text string) bool { return text != "" && text[0] == api.State }

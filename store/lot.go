@@ -1,6 +1,11 @@
 package store
 
-import "larder/api"
+import (
+	"cmp"
+	"slices"
+
+	"larder/api"
+)
 
 // lot is some goods that came together.
 type lot struct {
@@ -29,6 +34,13 @@ func (s *Store) find(number int64) *lot {
 		}
 	}
 	return nil
+}
+
+// byNumber answers the lots, their numbers rising.
+func (s *Store) byNumber() []*lot {
+	lots := slices.Clone(s.lots)
+	slices.SortFunc(lots, func(a, b *lot) int { return cmp.Compare(a.number, b.number) })
+	return lots
 }
 
 // room says whether a new lot of this number may come.

@@ -120,25 +120,30 @@ func (s *Store) hold(order int64, lines []line) {
 }
 
 // end takes an order away, and answers its lines, which are Held no longer:
-// the caller says what becomes of them. It goes by the lots, so that the order
-// of the map is not to be seen.
+// the caller says what becomes of them.
 func (s *Store) end(order int64) []line {
-	var lines []line
-	for _, l := range s.lots {
-		key := holding{order: order, lot: l.number}
-		count, ok := s.holdings[key]
-		if !ok {
-			continue
-		}
-		delete(s.holdings, key)
-		l.held -= count
-		lines = append(lines, line{lot: l, count: count})
+	lines := s.linesOf(order)
+	for _, each := range lines {
+		delete(s.holdings, holding{order: order, lot: each.lot.number})
+		each.lot.held -= each.count
 	}
 	delete(s.orders, order)
 	return lines
 }
 
-// told is the lines as a reply has them.
+// linesOf answers an order's lines, the lots' numbers rising. It goes by the
+// lots, so that the order of the map is not to be seen.
+func (s *Store) linesOf(order int64) []line {
+	var lines []line
+	for _, l := range s.byNumber() {
+		if count, ok := s.holdings[holding{order: order, lot: l.number}]; ok {
+			lines = append(lines, line{lot: l, count: count})
+		}
+	}
+	return lines
+}
+
+// told is the lines as replies and states have them.
 func told(lines []line) []int64 {
 	numbers := []int64{int64(len(lines))}
 	for _, each := range lines {

@@ -2,7 +2,6 @@ package store
 
 import (
 	"cmp"
-	"slices"
 
 	"larder/api"
 	"larder/command"
@@ -11,6 +10,14 @@ import (
 // recall is of a lot, with a mark.
 type recall struct {
 	lot, mark int64
+}
+
+// compareRecalls goes by lot, and then by mark.
+func compareRecalls(a, b recall) int {
+	if a.lot != b.lot {
+		return cmp.Compare(a.lot, b.lot)
+	}
+	return cmp.Compare(a.mark, b.mark)
 }
 
 func (s *Store) recall(c command.Recall) ([]int64, api.Errno) {
@@ -47,12 +54,11 @@ func (s *Store) heldOf(number int64) []line {
 	f := family{number: struct{}{}}
 	s.grow(f)
 	var lines []line
-	for _, l := range s.lots {
+	for _, l := range s.byNumber() {
 		if l.held > 0 && f.has(l) {
 			lines = append(lines, line{lot: l, count: l.held})
 		}
 	}
-	slices.SortFunc(lines, func(a, b line) int { return cmp.Compare(a.lot.number, b.lot.number) })
 	return lines
 }
 

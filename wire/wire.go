@@ -47,6 +47,19 @@ func (r *Reader) Number() int64 {
 	panic(errBroken)
 }
 
+// Take takes so many bytes.
+func (r *Reader) Take(count int64) string {
+	if count > int64(r.Left()) {
+		panic(errBroken)
+	}
+	taken := r.rest[:count]
+	r.rest = r.rest[count:]
+	return taken
+}
+
+// Left is how many bytes are left.
+func (r *Reader) Left() int { return len(r.rest) }
+
 // End wants nothing to be left.
 func (r *Reader) End() {
 	if r.rest != "" {
@@ -61,4 +74,13 @@ func Append(to []byte, n int64) []byte {
 		n >>= 7
 	}
 	return append(to, byte(n))
+}
+
+// Join writes a byte, and numbers behind it.
+func Join(first byte, numbers []int64) string {
+	b := []byte{first}
+	for _, n := range numbers {
+		b = Append(b, n)
+	}
+	return string(b)
 }

@@ -38,6 +38,44 @@ func TestNumbersThereAndBack(t *testing.T) {
 	}
 }
 
+func TestTakeSoManyBytes(t *testing.T) {
+	for _, count := range []int64{0, 1, 3} {
+		r := NewReader("abc")
+		if got, want := r.Take(count), "abc"[:count]; got != want || r.Left() != 3-int(count) {
+			t.Errorf("Take(%d) = %q, and %d are left", count, got, r.Left())
+		}
+	}
+	r := NewReader("abc")
+	if r.Left() != 3 {
+		t.Errorf("of three bytes %d are left", r.Left())
+	}
+	if got := r.Take(1) + "," + r.Take(2) + "," + r.Take(0); got != "a,bc," {
+		t.Errorf("Take in turn: %q", got)
+	}
+	r.End()
+}
+
+func TestTakeOfTooManyBytes(t *testing.T) {
+	for _, count := range []int64{4, 5, math.MaxInt32 + 1, math.MaxInt64} {
+		func() {
+			defer func() {
+				if recover() == nil {
+					t.Errorf("of three bytes %d were taken", count)
+				}
+			}()
+			NewReader("abc").Take(count)
+		}()
+	}
+}
+
+func TestJoin(t *testing.T) {
+	for want, numbers := range map[string][]int64{"\xff": nil, "\xff\x00": {0}, "\xff\x07\xac\x02\x7f": {7, 300, 127}} {
+		if got := Join(255, numbers); got != want {
+			t.Errorf("Join of %d = %x, want %x", numbers, got, want)
+		}
+	}
+}
+
 func TestAppendKeepsWhatIsThere(t *testing.T) {
 	if got := string(Append([]byte{9}, 300)); got != "\x09\xac\x02" {
 		t.Errorf("Append = %x", got)
